@@ -33,19 +33,28 @@ func Frame(c api.Command) (string, api.Errno) {
 
 // Unframe reads a command off the front of s, and tells how many bytes it has.
 func Unframe(s string) (api.Command, int, api.Errno) {
-	if len(s) < 2 { // too short to tell a kind
-		return api.Command{}, 0, api.ErrJournal
-	}
-	parts := partsOf(int(s[1]))
-	width := widthOf(parts)
-	if int(s[0]) != width || len(s) < 1+width {
+	parts, size := head(s)
+	if size == 0 || len(s) < size {
 		return api.Command{}, 0, api.ErrJournal
 	}
 	c := read(parts, s[1:])
 	if Right(c) != api.OK {
 		return api.Command{}, 0, api.ErrJournal
 	}
-	return c, 1 + width, api.OK
+	return c, size, api.OK
+}
+
+// head tells, by the first two bytes of s, the parts of the frame and how many bytes it has; 0, if they are not there or do not agree.
+func head(s string) ([]part, int) {
+	if len(s) < 2 {
+		return nil, 0
+	}
+	parts := partsOf(int(s[1]))
+	width := widthOf(parts)
+	if int(s[0]) != width {
+		return nil, 0
+	}
+	return parts, 1 + width
 }
 
 func read(parts []part, s string) api.Command {
@@ -66,10 +75,12 @@ func (p part) write(frame []byte, number int) []byte {
 	return frame
 }
 
-func (p part) read(s string) int {
+func (p part) read(s string) int { return lowFirst(s[:p.width]) - p.lift }
+
+func lowFirst(s string) int {
 	number := 0
-	for at := p.width - 1; at >= 0; at-- {
+	for at := len(s) - 1; at >= 0; at-- {
 		number = number<<8 + int(s[at])
 	}
-	return number - p.lift
+	return number
 }

@@ -30,7 +30,17 @@ func Unframe(s string) (api.Command, int, api.Errno) { return command.Unframe(s)
 func New() *Ledger { return &Ledger{holds: holds.New()} }
 
 // Open makes a ledger of a journal; if it is none, the number of the frame is told (P9).
-func Open(journal string) (*Ledger, api.Errno, int) { return nil, api.OK, 0 }
+func Open(journal string) (*Ledger, api.Errno, int) {
+	l := New()
+	for number := 0; !command.Torn(journal); number++ {
+		c, size, err := command.Unframe(journal)
+		if err != api.OK || !l.accepts(c) {
+			return nil, api.ErrJournal, number
+		}
+		journal = journal[size:]
+	}
+	return l, api.OK, 0
+}
 
 // Do does a command (P5 to P7).
 func (l *Ledger) Do(c api.Command) api.Answer {
@@ -50,6 +60,13 @@ func (l *Ledger) Do(c api.Command) api.Answer {
 		l.journal = append(l.journal, frame...)
 	}
 	return answer
+}
+
+// accepts does a command, and asks the journal, since the answer to one that was accepted already is OK too.
+func (l *Ledger) accepts(c api.Command) bool {
+	before := len(l.journal)
+	l.Do(c)
+	return len(l.journal) > before
 }
 
 // ATP tells what can be promised (P8).

@@ -101,7 +101,11 @@ func (k temper) run(t *testing.T, seed int64, seen *tally) {
 		}
 	}
 	var past []api.Command
+	was := pictureOf(t, l)
 	for step := range k.steps {
+		if seed%2 == 1 && step%25 == 0 { // one that was opened goes on as well
+			l = mustOpen(t, l.Journal())
+		}
 		c := k.draw(r, past)
 		accepted := len(m.accepted)
 		want := m.do(c)
@@ -113,6 +117,8 @@ func (k temper) run(t *testing.T, seed int64, seen *tally) {
 			t.Fatalf("%s, seed %d, step %d: behind Do(%+v): %s", k.name, seed, step, c, why)
 		}
 		checkPromises(t, p, m.accepted)
+		checkEndsOnce(t, was, p)
+		was = p
 		seen.errors[want.Err]++
 		if want.Err == api.OK && len(m.accepted) == accepted {
 			seen.again++
@@ -131,6 +137,22 @@ func checkPromises(t *testing.T, p picture, accepted []api.Command) {
 		}
 		if slices.Min(p.free[g][:]) < 0 {
 			t.Fatalf("P10: of good %d a channel promises more than its share: %v", g, p.free[g])
+		}
+	}
+}
+
+// checkEndsOnce: a hold that is no longer open stays as it is, and of an open one nothing changes but its state.
+func checkEndsOnce(t *testing.T, was, is picture) {
+	t.Helper()
+	if is.made < was.made {
+		t.Fatalf("P10: of %d holds %d are left", was.made, is.made)
+	}
+	for i, h := range was.holds[:was.made] {
+		if h.State == api.Open {
+			h.State = is.holds[i].State
+		}
+		if is.holds[i] != h {
+			t.Fatalf("P10: hold %d was %+v, and is %+v", i+1, was.holds[i], is.holds[i])
 		}
 	}
 }
